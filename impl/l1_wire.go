@@ -116,7 +116,7 @@ func GoodCmd(c Cmd) bool {
 		return false
 	}
 	f := formOf(kind)
-	return goodKeys(c.Keys, f) &&
+	return goodKeys(c.Keys, f.leastKeys, f.mostKeys) &&
 		goodNumber(c.Flags, f.flags) &&
 		goodNumber(c.Expire, f.expire) &&
 		goodNumber(c.Number, f.number) &&
@@ -124,8 +124,8 @@ func GoodCmd(c Cmd) bool {
 		(!c.Quiet || f.quiet)
 }
 
-func goodKeys(keys []string, f cmdForm) bool {
-	if len(keys) < f.leastKeys || len(keys) > f.mostKeys {
+func goodKeys(keys []string, least, most int) bool {
+	if len(keys) < least || len(keys) > most {
 		return false
 	}
 	for _, k := range keys {

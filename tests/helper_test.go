@@ -57,6 +57,16 @@ func shares(part, whole string) bool {
 	return p < w+uintptr(len(whole)) && w < p+uintptr(len(part))
 }
 
+// sameList says whether two lists lie in the same memory, their capacity counted.
+func sameList[T any](a, b []T) bool {
+	if cap(a) == 0 || cap(b) == 0 {
+		return false
+	}
+	var one T
+	p, q := uintptr(unsafe.Pointer(unsafe.SliceData(a))), uintptr(unsafe.Pointer(unsafe.SliceData(b)))
+	return p < q+uintptr(cap(b))*unsafe.Sizeof(one) && q < p+uintptr(cap(a))*unsafe.Sizeof(one)
+}
+
 // numbers is a fixed row of numbers that look as if thrown; each test begins it anew.
 type numbers struct{ state uint64 }
 

@@ -5,7 +5,6 @@ import (
 	"slices"
 	"strings"
 	"testing"
-	"unsafe"
 
 	"loop.example/g00170/impl"
 )
@@ -143,14 +142,4 @@ func sharesOne(parts, wholes []string) bool {
 		}
 	}
 	return false
-}
-
-// sameMemory says whether two lists of items lie in the same memory, their capacity counted.
-func sameMemory(a, b []impl.Item) bool {
-	if cap(a) == 0 || cap(b) == 0 {
-		return false
-	}
-	size := unsafe.Sizeof(impl.Item{})
-	p, q := uintptr(unsafe.Pointer(unsafe.SliceData(a))), uintptr(unsafe.Pointer(unsafe.SliceData(b)))
-	return p < q+uintptr(cap(b))*size && q < p+uintptr(cap(a))*size
 }

@@ -215,7 +215,7 @@ func TestStoreAnswersAreNew(t *testing.T) {
 		given := append(storeTexts(s), c.Keys...)
 		given = append(given, c.Data)
 		then, answer, _ := done(t, s, 20, c)
-		if sharesOne(append(storeTexts(then), answer), given) || sameMemory(then.Items, s.Items) {
+		if sharesOne(append(storeTexts(then), answer), given) || sameList(then.Items, s.Items) {
 			t.Errorf("the answer to %+v lies in the arguments", c)
 		}
 		wantStore(t, "the argument", s, threeItems())
@@ -223,7 +223,7 @@ func TestStoreAnswersAreNew(t *testing.T) {
 	s := copyOfStore(threeItems())
 	for _, now := range []int{0, 50, 100} {
 		then, _, _ := impl.DropOld(s, now)
-		if sharesOne(storeTexts(then), storeTexts(s)) || sameMemory(then.Items, s.Items) {
+		if sharesOne(storeTexts(then), storeTexts(s)) || sameList(then.Items, s.Items) {
 			t.Error("what DropOld answers lies in its argument")
 		}
 		it, _ := impl.FindItem(s, now, "b")
