@@ -292,10 +292,15 @@ func (r *wordReader) keys(f cmdForm) []string {
 	}
 	keys := make([]string, many)
 	for i := range keys {
-		keys[i] = strings.Clone(r.next())
-		r.bad = r.bad || !GoodKey(keys[i])
+		keys[i] = r.key()
 	}
 	return keys
+}
+
+func (r *wordReader) key() string {
+	key := strings.Clone(r.next())
+	r.bad = r.bad || !GoodKey(key)
+	return key
 }
 
 func (r *wordReader) number(most int) int {
