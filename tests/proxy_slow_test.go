@@ -53,39 +53,40 @@ func slowRun(nodes []impl.Node, limit int, l []impl.Event) (impl.Cluster, string
 				return answer
 			})
 		default:
-			c = slowChange(c, e)
+			c, _ = slowChange(c, e)
 		}
 	}
 	return c, from.out
 }
 
-func slowChange(c impl.Cluster, e impl.Event) impl.Cluster {
+// slowChange is what an event that brings no bytes makes of a cluster, and whether it does something.
+func slowChange(c impl.Cluster, e impl.Event) (impl.Cluster, bool) {
 	moves := len(c.Coming) > 0
 	switch e.Kind {
 	case impl.EventBegin:
 		if !moves && slowGoodNodes(e.Nodes) && !slices.Equal(c.Nodes, e.Nodes) {
-			return slowBegin(c, e.Nodes)
+			return slowBegin(c, e.Nodes), true
 		}
 	case impl.EventCopy:
 		if moves && e.N >= 0 && e.N <= mostCopied {
 			then, _ := slowCopy(c, e.N)
-			return then
+			return then, true
 		}
 	case impl.EventEnd:
 		if then, ok := slowEnd(c); ok {
-			return then
+			return then, true
 		}
 	case impl.EventTick:
 		if e.N >= 0 && e.N <= impl.MaxNow {
-			return slowTick(c, e.N)
+			return slowTick(c, e.N), true
 		}
 	case impl.EventCrash:
 		if slices.ContainsFunc(c.Places, func(p impl.Place) bool { return p.Name == e.Bytes }) {
 			then, _ := slowCrash(c, e.Bytes)
-			return then
+			return then, true
 		}
 	}
-	return c
+	return c, false
 }
 
 // slowModel is ModelEvents told a second time.
